@@ -1,0 +1,1 @@
+"""Everguard: machines, and things that must never be."""

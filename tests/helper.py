@@ -1,0 +1,164 @@
+"""What several tests share: machines made by a seed, and plain reckonings to hold answers against.
+
+Nothing here asks the program for more than the class Machine: what it tells is reckoned anew.
+"""
+
+import itertools
+
+from everguard.machines import Machine
+
+FIELDS = ("switches", "keepers", "gates", "nexts", "nevers", "somes")
+
+
+def fields(machine):
+    """All fields of a machine, dicts as lists of pairs, so that orders count."""
+    told = [getattr(machine, name) for name in FIELDS]
+    return [list(field.items()) if isinstance(field, dict) else list(field) for field in told]
+
+
+def names(count):
+    """Unlike names, some of one letter, some of eight."""
+    letters = "abcdefghijklmnopqrstuvwxyz"
+    made = list(letters) + [a + b + "n" * (k % 7) for k, (a, b) in enumerate(itertools.product(letters, letters))]
+    return made[:count]
+
+
+def some_literal(rng, known):
+    kind = rng.randrange(12)
+    if kind < 2 or not known:
+        return rng.choice(("0", "1"))
+    return rng.choice(("", "~")) + rng.choice(known)
+
+
+def some_machine(rng, switches, keepers, gates, wishes=4):
+    """A machine of so many of each, as the generator has it."""
+    given = names(switches + keepers + gates)
+    rng.shuffle(given)
+    switch_names = given[:switches]
+    keeper_names = given[switches:switches + keepers]
+    firsts = {name: rng.choice((0, 1, None)) for name in keeper_names}
+    known = switch_names + keeper_names
+    made = []
+    for name in given[switches + keepers:]:
+        made.append((name, some_literal(rng, known), some_literal(rng, known)))
+        known.append(name)
+    nexts = {}
+    for name in rng.sample(keeper_names, len(keeper_names)):
+        if rng.randrange(5):
+            nexts[name] = some_literal(rng, known)
+    wish_names = names(wishes)
+    rng.shuffle(wish_names)
+    nevers = {name: some_literal(rng, known) for name in wish_names[: wishes // 2]}
+    somes = {name: some_literal(rng, known) for name in wish_names[wishes // 2:]}
+    return Machine(switch_names, firsts, made, nexts, nevers, somes)
+
+
+def tuples(count):
+    """All tuples of so many bits, rising."""
+    return list(itertools.product((0, 1), repeat=count))
+
+
+def bit_of(values, literal):
+    if literal in ("0", "1"):
+        return int(literal)
+    return 1 - values[literal[1:]] if literal[0] == "~" else values[literal]
+
+
+def reckoned(machine, stand, told):
+    """The values of all names."""
+    values = {}
+    for name, bit in zip(machine.switches, told):
+        values[name] = bit
+    for name, bit in zip(list(machine.keepers), stand):
+        values[name] = bit
+    for name, one, other in machine.gates:
+        values[name] = 1 if bit_of(values, one) == 1 and bit_of(values, other) == 1 else 0
+    return values
+
+
+def reckoned_step(machine, stand, told):
+    values = reckoned(machine, stand, told)
+    return tuple(bit_of(values, machine.nexts.get(name, name)) for name in machine.keepers)
+
+
+def reckoned_firsts(machine):
+    told = list(machine.keepers.values())
+    return [s for s in tuples(len(told)) if all(a is None or a == b for a, b in zip(told, s))]
+
+
+def wish_literal(machine, wish):
+    return {**machine.nevers, **machine.somes}[wish]
+
+
+def rings(machine):
+    """The stands that can be come to: a list for each count of steps, of those first come to by it."""
+    found = [reckoned_firsts(machine)]
+    seen = set(found[0])
+    while found[-1]:
+        behind = {
+            reckoned_step(machine, stand, told)
+            for stand in found[-1]
+            for told in tuples(len(machine.switches))
+        }
+        found.append(sorted(behind - seen))
+        seen |= behind
+    return found[:-1]
+
+
+def shortest_count(machine, wish):
+    """How many inputs a shortest row to the wish's literal has, or None."""
+    literal = wish_literal(machine, wish)
+    for count, stands in enumerate(rings(machine)):
+        for stand in stands:
+            for told in tuples(len(machine.switches)):
+                if bit_of(reckoned(machine, stand, told), literal) == 1:
+                    return count + 1
+    return None
+
+
+def keeps(choice, clause):
+    """Whether the choice keeps the clause."""
+    return any(choice[abs(number) - 1] == (1 if number > 0 else 0) for number in clause)
+
+
+def choice_exists(many, clauses, wants):
+    """Whether there is a choice, by going through all of them."""
+    units = [[want] for want in wants]
+    return any(all(keeps(choice, clause) for clause in clauses + units) for choice in tuples(many))
+
+
+def some_clauses(rng, many, count, longest):
+    """So many clauses as [31] has them."""
+    made = []
+    for _ in range(count):
+        length = min(many, rng.randint(1, longest))
+        made.append([rng.choice((1, -1)) * v for v in rng.sample(range(1, many + 1), length)])
+    return made
+
+
+def drawers(things, places):
+    """(many, clauses): each thing in a drawer, no two in one."""
+    def number(thing, place):
+        return thing * places + place + 1
+
+    clauses = [[number(thing, place) for place in range(places)] for thing in range(things)]
+    for place in range(places):
+        for one, other in itertools.combinations(range(things), 2):
+            clauses.append([-number(one, place), -number(other, place)])
+    return things * places, clauses
+
+
+def counter_machine(count):
+    """A machine without switches whose keepers, all 0 at first, count up; `full` must never be all 1."""
+    keepers = {"k" + chr(ord("a") + place): 0 for place in range(count)}
+    gates = []
+    nexts = {}
+    carry = "1"
+    for name in keepers:
+        tail = name[1]
+        gates.append(("c" + tail, name, carry))
+        gates.append(("n" + tail, "~" + name, "~" + carry if carry != "1" else "0"))
+        gates.append(("x" + tail, "~c" + tail, "~n" + tail))
+        nexts[name] = "x" + tail
+        carry = "c" + tail
+    return Machine([], keepers, gates, nexts, {"full": carry}, {"half": carry})
