@@ -1,0 +1,175 @@
+"""[1], [2]: what holds of the whole program: nothing handed in is changed, answers are the asker's own and the same."""
+
+import copy
+import os
+import random
+import subprocess
+import sys
+import unittest
+
+from everguard.machines import Machine, next_of, turned
+from everguard.machinetext import machine_text, read_machine
+from everguard.numbers import Numbers
+from everguard.plain import plain_answer
+from everguard.refuting import clause_behind, refuted
+from everguard.running import comes_there, first_stands, is_first, stepped, value_of, values_at, walked
+from everguard.solving import solved
+from helper import counter_machine, drawers, fields, some_machine
+
+MANY, CLAUSES = drawers(4, 3)
+
+ASKED_ELSEWHERE = """
+import random
+from everguard.machinetext import machine_text
+from everguard.numbers import Numbers
+from everguard.plain import plain_answer
+from everguard.solving import solved
+from helper import drawers, some_machine
+rng = random.Random(7)
+for count in range(8):
+    made = some_machine(rng, 3, 5, 12)
+    print(machine_text(made), [plain_answer(made, wish) for wish in list(made.nevers) + list(made.somes)])
+    numbers = Numbers(made)
+    print(numbers.clauses(), solved(numbers.many(), numbers.clauses(), [numbers.number(made.gates[-1][0])]))
+print(solved(*drawers(5, 4), []))
+"""
+
+
+def questions(machine, paper):
+    """Functions without arguments, one for each thing that can be asked of the machine and the paper."""
+    wish = list(machine.nevers)[0]
+    stand = first_stands(machine)[0]
+    row = [tuple(1 for name in machine.switches)] * 3
+    numbers = Numbers(machine)
+    return [
+        lambda: machine_text(machine),
+        lambda: fields(read_machine(machine_text(machine))),
+        lambda: [next_of(machine, name) for name in machine.keepers],
+        lambda: turned("a"),
+        lambda: values_at(machine, stand, row[0]),
+        lambda: value_of(values_at(machine, stand, row[0]), machine.nevers[wish]),
+        lambda: stepped(machine, stand, row[0]),
+        lambda: walked(machine, stand, row),
+        lambda: is_first(machine, stand),
+        lambda: comes_there(machine, wish, stand, row),
+        lambda: first_stands(machine),
+        lambda: plain_answer(machine, wish),
+        lambda: solved(numbers.many(), numbers.clauses(), [numbers.number(machine.nevers[wish])]),
+        lambda: solved(MANY, CLAUSES, []),
+        lambda: refuted(CLAUSES, [], paper),
+        lambda: clause_behind(CLAUSES, paper),
+        lambda: numbers.clauses(),
+        lambda: (numbers.many(), numbers.number("1")),
+    ]
+
+
+def containers(told):
+    """All lists and dicts within what was told, itself among them."""
+    inner = list(told.values()) if isinstance(told, dict) else told if isinstance(told, (list, tuple)) else []
+    found = [told] if isinstance(told, (list, dict)) else []
+    for part in inner:
+        found += containers(part)
+    return found
+
+
+def spoil(told):
+    """Change all that can be changed in what was told."""
+    for part in containers(told):
+        if isinstance(part, dict):
+            part.clear()
+            part["spoilt"] = 9
+        else:
+            part.reverse()
+            part.append("spoilt")
+
+
+class Whole(unittest.TestCase):
+    def machines(self):
+        rng = random.Random(1)
+        made = [some_machine(rng, rng.randint(0, 3), rng.randint(0, 5), rng.randint(0, 15)) for count in range(25)]
+        return made + [counter_machine(5)]
+
+    def test_what_was_told_may_be_changed(self):
+        paper = solved(MANY, CLAUSES, [])[1]
+        for machine in self.machines():
+            asked = questions(machine, paper)
+            before = fields(machine)
+            wanted = [copy.deepcopy(question()) for question in asked]
+            for question, answer in zip(asked, wanted):
+                spoil(question())
+                self.assertEqual(question(), answer)
+            self.assertEqual([question() for question in asked], wanted)
+            self.assertEqual(fields(machine), before)
+
+    def test_what_was_handed_in_stays(self):
+        paper = solved(MANY, CLAUSES, [])[1]
+        kept = copy.deepcopy((paper, CLAUSES))
+        for machine in self.machines():
+            before = fields(machine)
+            for question in questions(machine, paper):
+                question()
+            self.assertEqual(fields(machine), before)
+        self.assertEqual((paper, CLAUSES), kept)
+
+    def test_rows_and_values_handed_in_stay(self):
+        machine = read_machine("switch s\nkeep k 0\nnext k s\nnever w k")
+        row = [(1,), (0,), (1,)]
+        values = {"s": 1, "k": 0}
+        walked(machine, (0,), row)
+        comes_there(machine, "w", (0,), row)
+        value_of(values, "~s")
+        self.assertEqual((row, values), ([(1,), (0,), (1,)], {"s": 1, "k": 0}))
+
+    def test_no_two_lists_or_dicts_that_are_told_are_one(self):
+        paper = solved(MANY, CLAUSES, [])[1]
+        for machine in self.machines():
+            told = [question() for question in questions(machine, paper) + questions(machine, paper)]
+            found = [part for answer in told for part in containers(answer)]
+            self.assertEqual(len({id(part) for part in found}), len(found))
+
+    def test_machines_read_twice_share_nothing(self):
+        told = "switch a\nkeep k -\ngate g a k\nnext k g\nnever w g\nsome v k"
+        one = read_machine(told)
+        wanted = fields(read_machine(told))
+        one.switches.append("b")
+        one.keepers["m"] = 1
+        one.gates.clear()
+        one.nexts["k"] = "0"
+        one.nevers.clear()
+        one.somes["x"] = "1"
+        self.assertEqual(fields(read_machine(told)), wanted)
+
+    def test_what_was_told_may_be_handed_in_again(self):
+        machine = counter_machine(8)
+        answer = plain_answer(machine, "full")
+        self.assertIs(comes_there(machine, "full", answer[1], answer[2]), True)
+        # Greater than clauses and papers that are handed in need to be.
+        many, clauses = drawers(7, 6)
+        paper = solved(many, clauses, [])[1]
+        self.assertIs(refuted(clauses, [], paper), True)
+        numbers = Numbers(some_machine(random.Random(2), 12, 16, 60))
+        self.assertEqual(solved(numbers.many(), numbers.clauses(), [])[0], "yes")
+
+    def test_machines_somewhat_beyond_the_bounds_are_not_refused(self):
+        keepers = {"k" + letter: 0 for letter in "abcdefghijklmnopqr"}
+        switches = ["s" + letter for letter in "abcdefghijklmn"]
+        machine = Machine(switches, keepers, [("g", "sa", "ka")], {"ka": "sn"}, {"w": "g"}, {})
+        self.assertEqual(stepped(machine, (0,) * 18, (1,) * 14), (1,) + (0,) * 17)
+        self.assertEqual(Numbers(machine).many(), 34)
+        self.assertIs(comes_there(machine, "w", (0,) * 18, [(1,) * 14] * 2), True)
+
+    def test_the_same_is_told_in_another_process(self):
+        folder = os.path.dirname(os.path.abspath(__file__))
+        told = set()
+        for seed in ("0", "1", "2"):
+            paths = os.pathsep.join([folder] + [path or os.getcwd() for path in sys.path])
+            around = dict(os.environ, PYTHONHASHSEED=seed, PYTHONPATH=paths, PYTHONDONTWRITEBYTECODE="1")
+            done = subprocess.run(
+                [sys.executable, "-c", ASKED_ELSEWHERE], env=around, capture_output=True, text=True, check=True,
+            )
+            told.add(done.stdout)
+        self.assertEqual(len(told), 1)
+
+
+if __name__ == "__main__":
+    unittest.main()
