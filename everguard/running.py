@@ -62,6 +62,11 @@ def first_stands(machine):
     return rising_bits(list(machine.keepers.values()))
 
 
+def all_stands(machine):
+    """All stands, rising."""
+    return rising_bits([None] * len(machine.keepers))
+
+
 def all_inputs(machine):
     """All inputs, rising."""
     return rising_bits([None] * len(machine.switches))

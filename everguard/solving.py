@@ -1,369 +1,83 @@
-"""A solver of choices: it tries bits, learns a clause from each clash, and tells papers of what it learnt.
+"""A solver of choices, and the papers that it tells of what the search learnt."""
 
-The wants are set first, without any reason, and stay; so each learnt clause follows from the clauses alone,
-with turned wants in it where it needs them, and the last clash comes down to turned wants.
-"""
-
-RESTART_UNIT = 100
-FORGET_FROM = 600
-FORGET_GROWTH = 200
-WORTHY_SPAN = 2
+from everguard.searching import Search
 
 
 def solved(many, clauses, wants):
     """("yes", choice) with a choice that keeps the clauses and has the wants, or ("no", paper)."""
-    search = Search(many, clauses)
-    clash = search.begun(wants)
-    while True:
-        if clash is None:
-            clash = search.passed_on()
-        if clash is None:
-            if not search.tried():
-                return ("yes", search.choice())
-        elif search.level() == 0:
-            return ("no", search.paper(clash))
-        else:
-            search.learn(clash)
-            clash = None
+    search = Search(many)
+    search.take(clauses)
+    return answer_of(search, wants)
 
 
-class Order:
-    """The variables in a ring round 0, those of the latest clashes last: these are tried first."""
-
-    def __init__(self, many):
-        self.ahead = [many] + list(range(many))
-        self.behind = list(range(1, many + 1)) + [0]
-        self.marks = list(range(many + 1))
-        self.newest = many
-        # Behind this one no variable is without a bit.
-        self.seek = many
-
-    def freed(self, variable):
-        """Take notice of a variable that has no bit any more."""
-        if self.marks[variable] > self.marks[self.seek]:
-            self.seek = variable
-
-    def latest_free(self, bits):
-        """The latest variable without a bit, or 0."""
-        variable = self.seek
-        while variable != 0 and bits[variable] != 0:
-            variable = self.ahead[variable]
-        self.seek = variable
-        return variable
-
-    def put_last(self, variables):
-        """Put the variables, which have bits, behind all others."""
-        for variable in sorted(variables, key=self.mark_of):
-            before = self.ahead[variable]
-            after = self.behind[variable]
-            self.behind[before] = after
-            self.ahead[after] = before
-            last = self.ahead[0]
-            self.behind[last] = variable
-            self.ahead[variable] = last
-            self.behind[variable] = 0
-            self.ahead[0] = variable
-            self.newest += 1
-            self.marks[variable] = self.newest
-
-    def mark_of(self, variable):
-        """How late the variable was put last."""
-        return self.marks[variable]
+def answer_of(search, wants):
+    """What solved tells of all clauses that the search was given."""
+    clash = search.clash_with(wants)
+    if clash is None:
+        return ("yes", search.choice())
+    return ("no", paper_of(search, clash))
 
 
-class Pauses:
-    """When the search goes back to its beginning: in runs of 1, 1, 2, 1, 1, 2, 4 .. units of clashes."""
-
-    def __init__(self):
-        self.turn = 1
-        self.length = 1
-        self.left = RESTART_UNIT
-
-    def due(self):
-        """Count a clash; whether a run has ended by it."""
-        self.left -= 1
-        if self.left > 0:
-            return False
-        if self.turn & -self.turn == self.length:
-            self.turn += 1
-            self.length = 1
-        else:
-            self.length *= 2
-        self.left = self.length * RESTART_UNIT
-        return True
+def paper_of(search, clash):
+    """The paper of a clash that no try has a part in."""
+    last = last_chain(search, clash)
+    steps = []
+    # From the search's numbers of clauses to those of the paper.
+    renamed = dict(search.ranks)
+    for number in needed(search, last):
+        renamed[number] = write_chain(search.chains[number], renamed, steps, len(search.ranks))
+    return (steps, write_chain(last, renamed, steps, len(search.ranks)))
 
 
-class Search:
-    """A choice in the making, and all clauses given and learnt."""
-
-    def __init__(self, many, clauses):
-        self.size = many
-        self.given = len(clauses)
-        self.held = [list(clause) for clause in clauses]
-        # Lists by numbers from -many to many: those below nought lie at the list's end.
-        self.bits = [0] * (2 * many + 1)
-        self.watches = [[] for place in range(2 * many + 1)]
-        self.levels = [0] * (many + 1)
-        self.reasons = [None] * (many + 1)
-        self.places = [0] * (many + 1)
-        self.signs = [-1] * (many + 1)
-        self.trail = []
-        self.passed = 0
-        self.cuts = []
-        self.order = Order(many)
-        self.pauses = Pauses()
-        # From each learnt clause's number to the clauses it came from, and to how many levels it has.
-        self.chains = {}
-        self.spans = {}
-        self.forget_at = FORGET_FROM
-        for number in range(self.given):
-            self.watch(number)
-
-    def watch(self, number):
-        """Let a clause be looked at when one of its first two numbers is no longer so."""
-        clause = self.held[number]
-        if len(clause) > 1:
-            self.watches[clause[0]].append(number)
-            self.watches[clause[1]].append(number)
-
-    def level(self):
-        """How many bits were tried that still stand."""
-        return len(self.cuts)
-
-    def choice(self):
-        """The bits of all variables, once they all have one."""
-        return [1 if bit == 1 else 0 for bit in self.bits[1:self.size + 1]]
-
-    def begun(self, wants):
-        """Set the wants and the clauses of one number; the number of a clause that clashes, or None."""
-        for want in wants:
-            self.put(want, None)
-        for number in range(self.given):
-            clause = self.held[number]
-            if len(clause) == 0:
-                return number
-            if len(clause) == 1:
-                if self.bits[clause[0]] == -1:
-                    return number
-                if self.bits[clause[0]] == 0:
-                    self.put(clause[0], number)
-        return None
-
-    def put(self, literal, reason):
-        """Let a number be so, for the clause that asks for it, or for none."""
-        variable = abs(literal)
-        self.bits[literal] = 1
-        self.bits[-literal] = -1
-        self.levels[variable] = len(self.cuts)
-        self.reasons[variable] = reason
-        self.places[variable] = len(self.trail)
-        self.trail.append(literal)
-
-    def tried(self):
-        """Try a bit for a variable that has none; whether there was one."""
-        variable = self.order.latest_free(self.bits)
-        if variable == 0:
-            return False
-        self.cuts.append(len(self.trail))
-        self.put(variable * self.signs[variable], None)
-        return True
-
-    def passed_on(self):
-        """Put all that the clauses ask for; the number of a clause that clashes, or None."""
-        while self.passed < len(self.trail):
-            clash = self.looked_at(-self.trail[self.passed])
-            self.passed += 1
-            if clash is not None:
-                return clash
-        return None
-
-    def looked_at(self, fallen):
-        """Look at the clauses that watch a number which is no longer so; one that clashes, or None."""
-        bits = self.bits
-        held = self.held
-        watching = self.watches[fallen]
-        stay = []
-        self.watches[fallen] = stay
-        for place, number in enumerate(watching):
-            clause = held[number]
-            if clause[0] == fallen:
-                clause[0] = clause[1]
-                clause[1] = fallen
-            bit = bits[clause[0]]
-            if bit == 1:
-                stay.append(number)
-            elif not self.watched_elsewhere(clause, number):
-                stay.append(number)
-                if bit == -1:
-                    stay.extend(watching[place + 1:])
-                    return number
-                self.put(clause[0], number)
-        return None
-
-    def watched_elsewhere(self, clause, number):
-        """Whether another number of the clause could be watched in place of its second."""
-        bits = self.bits
-        for place in range(2, len(clause)):
-            literal = clause[place]
-            if bits[literal] != -1:
-                clause[place] = clause[1]
-                clause[1] = literal
-                self.watches[literal].append(number)
-                return True
-        return False
-
-    def learn(self, clash):
-        """Learn a clause from a clash and go back to where it asks for a number."""
-        seen = {}
-        chain = []
-        single = self.singled_out(clash, seen, chain)
-        needless = self.join_needless(seen, chain)
-        others = [variable for variable in seen if self.is_lower(variable) and variable not in needless]
-        # Latest first: the watched ones must be those that a step back lets stand again before the others.
-        places = sorted([self.places[variable] for variable in others], reverse=True)
-        clause = [-single] + [-self.trail[place] for place in places]
-        number = self.keep(clause, chain)
-        self.order.put_last([variable for variable in seen if self.levels[variable] > 0])
-        self.go_back(self.levels[abs(clause[1])] if len(clause) > 1 else 0)
-        self.put(clause[0], number)
-        if self.pauses.due():
-            self.go_back(0)
-            self.forget()
-
-    def singled_out(self, clash, seen, chain):
-        """Join reasons to the clash till it has one number of the latest level; that one's turned one."""
-        level = len(self.cuts)
-        reason = clash
-        pivot = 0
-        place = len(self.trail)
-        waiting = 0
-        while True:
+def last_chain(search, clash):
+    """Join reasons to the clash till turned wants alone are left."""
+    chain = [(clash, 0)]
+    seen = {}
+    for literal in search.held[clash]:
+        seen[abs(literal)] = True
+    for pivot in reversed(search.trail):
+        reason = search.reasons[abs(pivot)]
+        if abs(pivot) in seen and reason is not None:
             chain.append((reason, pivot))
-            for literal in self.held[reason]:
-                variable = abs(literal)
-                if variable not in seen:
-                    seen[variable] = True
-                    if self.levels[variable] == level:
-                        waiting += 1
-            place -= 1
-            while abs(self.trail[place]) not in seen:
-                place -= 1
-            pivot = self.trail[place]
-            waiting -= 1
-            if waiting == 0:
-                return pivot
-            reason = self.reasons[abs(pivot)]
-
-    def is_lower(self, variable):
-        """Whether the variable has its bit from a lower level than the latest."""
-        return self.levels[variable] < len(self.cuts)
-
-    def join_needless(self, seen, chain):
-        """Join the reasons of the lower variables that follow from the others; a dict of these."""
-        needless = {}
-        for variable in seen:
-            if self.is_lower(variable) and self.is_needless(variable, seen):
-                needless[variable] = True
-        # From the latest to the earliest: a reason may have needless ones whose turn comes behind it.
-        for place in sorted([self.places[variable] for variable in needless], reverse=True):
-            pivot = self.trail[place]
-            reason = self.reasons[abs(pivot)]
-            chain.append((reason, pivot))
-            for literal in self.held[reason]:
+            for literal in search.held[reason]:
                 seen[abs(literal)] = True
-        return needless
+    return chain
 
-    def is_needless(self, variable, seen):
-        """Whether the variable's reason asks for nothing but what is seen or stands for good."""
-        reason = self.reasons[variable]
-        # What stands for good is left to the last chain, which joins each such reason once.
-        if reason is None or self.levels[variable] == 0:
-            return False
-        for literal in self.held[reason]:
-            if abs(literal) not in seen and self.levels[abs(literal)] > 0:
-                return False
-        return True
 
-    def keep(self, clause, chain):
-        """Keep a learnt clause with what it came from; its number."""
-        number = len(self.held)
-        self.held.append(clause)
-        self.chains[number] = chain
-        self.spans[number] = len(set([self.levels[abs(literal)] for literal in clause]))
-        self.watch(number)
-        return number
+def needed(search, last):
+    """The numbers of the learnt clauses on which the last chain hangs, rising."""
+    hung_on = dict(last)
+    # A clause came from earlier ones alone, so one walk from the last to the first sees all.
+    for number in reversed(list(search.chains)):
+        if number in hung_on:
+            hung_on.update(dict(search.chains[number]))
+    return [number for number in search.chains if number in hung_on]
 
-    def go_back(self, level):
-        """Take back all that was put above the level."""
-        if level >= len(self.cuts):
-            return
-        cut = self.cuts[level]
-        while len(self.trail) > cut:
-            literal = self.trail.pop()
-            variable = abs(literal)
-            self.bits[literal] = 0
-            self.bits[-literal] = 0
-            self.signs[variable] = 1 if literal > 0 else -1
-            self.order.freed(variable)
-        self.cuts = self.cuts[:level]
-        self.passed = cut
 
-    def forget(self):
-        """Once there are many, look no longer at the half of the learnt clauses that has the most levels."""
-        if len(self.spans) < self.forget_at:
-            return
-        self.forget_at += FORGET_GROWTH
-        ranked = sorted([(span, -number) for number, span in self.spans.items() if span > WORTHY_SPAN])
-        gone = {}
-        for span, age in ranked[len(ranked) // 2:]:
-            gone[-age] = True
-            self.spans.pop(-age)
-        for place in range(len(self.watches)):
-            self.watches[place] = [number for number in self.watches[place] if number not in gone]
+def write_chain(chain, renamed, steps, given):
+    """Write the steps of a chain behind the others; the number of its last clause in the paper."""
+    current = renamed[chain[0][0]]
+    for number, pivot in chain[1:]:
+        if pivot > 0:
+            steps.append((renamed[number], current, pivot))
+        else:
+            steps.append((current, renamed[number], -pivot))
+        current = given + len(steps) - 1
+    return current
 
-    def paper(self, clash):
-        """The paper of a clash that no try has a part in."""
-        last = self.last_chain(clash)
-        steps = []
-        renamed = {}
-        for number in self.needed(last):
-            renamed[number] = self.write_chain(self.chains[number], renamed, steps)
-        return (steps, self.write_chain(last, renamed, steps))
 
-    def last_chain(self, clash):
-        """Join reasons to the clash till turned wants alone are left."""
-        chain = [(clash, 0)]
-        seen = {}
-        for literal in self.held[clash]:
-            seen[abs(literal)] = True
-        for pivot in reversed(self.trail):
-            reason = self.reasons[abs(pivot)]
-            if abs(pivot) in seen and reason is not None:
-                chain.append((reason, pivot))
-                for literal in self.held[reason]:
-                    seen[abs(literal)] = True
-        return chain
-
-    def needed(self, last):
-        """The numbers of the learnt clauses on which the last chain hangs, rising."""
-        hung_on = {}
-        for number, pivot in last:
-            hung_on[number] = True
-        # A clause came from earlier ones alone, so one walk from the last to the first sees all.
-        for number in range(len(self.held) - 1, self.given - 1, -1):
-            if number in hung_on:
-                for earlier, pivot in self.chains[number]:
-                    hung_on[earlier] = True
-        return [number for number in range(self.given, len(self.held)) if number in hung_on]
-
-    def write_chain(self, chain, renamed, steps):
-        """Write the steps of a chain behind the others; the number of its last clause in the paper."""
-        current = renamed.get(chain[0][0], chain[0][0])
-        for number, pivot in chain[1:]:
-            reason = renamed.get(number, number)
-            if pivot > 0:
-                steps.append((reason, current, pivot))
+def wants_behind(search, clash):
+    """The wants on which a clash hangs that no try has a part in, as a dict."""
+    seen = {}
+    for literal in search.held[clash]:
+        seen[abs(literal)] = True
+    found = {}
+    for pivot in reversed(search.trail):
+        if abs(pivot) in seen:
+            reason = search.reasons[abs(pivot)]
+            if reason is None:
+                found[pivot] = True
             else:
-                steps.append((current, reason, -pivot))
-            current = self.given + len(steps) - 1
-        return current
+                for literal in search.held[reason]:
+                    seen[abs(literal)] = True
+    return found

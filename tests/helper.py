@@ -1,4 +1,4 @@
-"""What several tests share: machines made by a seed, and plain reckonings to hold answers against.
+"""What several tests share: machines and walls made by a seed, and plain reckonings to hold answers against.
 
 Nothing here asks the program for more than the class Machine: what it tells is reckoned anew.
 """
@@ -51,6 +51,48 @@ def some_machine(rng, switches, keepers, gates, wishes=4):
     nevers = {name: some_literal(rng, known) for name in wish_names[: wishes // 2]}
     somes = {name: some_literal(rng, known) for name in wish_names[wishes // 2:]}
     return Machine(switch_names, firsts, made, nexts, nevers, somes)
+
+
+def tangled_machine(rng, switches, keepers, gates, wishes=4):
+    """A machine whose keepers mostly become sums or choices of others, as far as the gates reach; wishes of never."""
+    given = names(switches + keepers + gates)
+    rng.shuffle(given)
+    switch_names = given[:switches]
+    keeper_names = given[switches:switches + keepers]
+    free = given[switches + keepers:]
+    known = switch_names + keeper_names
+    made = []
+
+    def drawn(pool):
+        return rng.choice(("", "~")) + rng.choice(pool)
+
+    def other(literal):
+        return literal[1:] if literal[0] == "~" else "~" + literal
+
+    def gate(one, two):
+        made.append((free.pop(), one, two))
+        known.append(made[-1][0])
+        return made[-1][0]
+
+    nexts = {}
+    for name in keeper_names:
+        kind = rng.randrange(6) if len(free) > 3 + wishes else 6
+        one, two, three = (drawn(known) for _ in range(3))
+        if kind < 3:
+            nexts[name] = gate("~" + gate(one, two), "~" + gate(other(one), other(two)))
+        elif kind == 3:
+            nexts[name] = "~" + gate("~" + gate(three, one), "~" + gate(other(three), two))
+        elif kind < 6:
+            nexts[name] = gate(one, two)
+        else:
+            nexts[name] = one
+    nevers = {}
+    for name in names(wishes):
+        nevers[name] = drawn(keeper_names)
+        while free and rng.randrange(3):
+            nevers[name] = gate(nevers[name], drawn(keeper_names))
+    firsts = {name: rng.choice((0, 0, 0, 1, None)) for name in keeper_names}
+    return Machine(switch_names, firsts, made, nexts, nevers, {})
 
 
 def tuples(count):
@@ -134,6 +176,54 @@ def some_clauses(rng, many, count, longest):
         length = min(many, rng.randint(1, longest))
         made.append([rng.choice((1, -1)) * v for v in rng.sample(range(1, many + 1), length)])
     return made
+
+
+def clause_of_paper(clauses, paper):
+    """The paper's last clause, walked step by step, or None where a step is wrong."""
+    steps, last = paper
+    known = [frozenset(clause) for clause in clauses]
+    for one, other, variable in steps:
+        if not (0 <= one < len(known) and 0 <= other < len(known) and variable > 0):
+            return None
+        if variable not in known[one] or -variable not in known[other]:
+            return None
+        known.append((known[one] - {variable}) | (known[other] - {-variable}))
+        if any(-number in known[-1] for number in known[-1]):
+            return None
+    return known[last] if 0 <= last < len(known) else None
+
+
+def refutes(clauses, wants, paper):
+    """Whether the paper's last clause has turned wants alone."""
+    clause = clause_of_paper(clauses, paper)
+    return clause is not None and all(-number in wants for number in clause)
+
+
+def literal_at(machine, stand, literal):
+    """A keeper's literal's bit at the stand."""
+    return bit_of(dict(zip(machine.keepers, stand)), literal)
+
+
+def keeps_wall(machine, stand, wall):
+    """Whether the stand keeps all pieces."""
+    return all(any(literal_at(machine, stand, literal) for literal in piece) for piece in wall)
+
+
+def drawn_piece(rng, machine, count):
+    """A piece of at most so many literals."""
+    chosen = rng.sample(list(machine.keepers), min(count, len(machine.keepers)))
+    return tuple(rng.choice(("", "~")) + name for name in machine.keepers if name in chosen)
+
+
+def piece_against(machine, stand):
+    """The piece that this stand alone breaks."""
+    return tuple("~" + name if bit else name for name, bit in zip(machine.keepers, stand))
+
+
+def tight_wall(machine):
+    """The wall that is kept by just the stands that can be come to."""
+    reached = {stand for ring in rings(machine) for stand in ring}
+    return [piece_against(machine, stand) for stand in tuples(len(machine.keepers)) if stand not in reached]
 
 
 def drawers(things, places):

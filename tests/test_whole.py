@@ -12,9 +12,12 @@ from everguard.machinetext import machine_text, read_machine
 from everguard.numbers import Numbers
 from everguard.plain import plain_answer
 from everguard.refuting import clause_behind, refuted
+from everguard.rows import none_shown, shortest_row
 from everguard.running import comes_there, first_stands, is_first, stepped, value_of, values_at, walked
 from everguard.solving import solved
-from helper import counter_machine, drawers, fields, some_machine
+from everguard.steps import Steps
+from everguard.walls import wall_fault, wall_papers
+from helper import counter_machine, drawers, fields, some_machine, tight_wall
 
 MANY, CLAUSES = drawers(4, 3)
 
@@ -23,14 +26,22 @@ import random
 from everguard.machinetext import machine_text
 from everguard.numbers import Numbers
 from everguard.plain import plain_answer
+from everguard.rows import shortest_row
 from everguard.solving import solved
-from helper import drawers, some_machine
+from everguard.steps import Steps
+from everguard.walls import wall_fault, wall_papers
+from helper import drawers, some_machine, tight_wall
 rng = random.Random(7)
 for count in range(8):
     made = some_machine(rng, 3, 5, 12)
     print(machine_text(made), [plain_answer(made, wish) for wish in list(made.nevers) + list(made.somes)])
     numbers = Numbers(made)
     print(numbers.clauses(), solved(numbers.many(), numbers.clauses(), [numbers.number(made.gates[-1][0])]))
+    print(Steps(made, 2).clauses(), [shortest_row(made, wish, 3) for wish in list(made.nevers) + list(made.somes)])
+    for wish in made.nevers:
+        print(wall_fault(made, wish, tight_wall(made)))
+        if plain_answer(made, wish)[0] == "wall":
+            print(wall_papers(made, wish, tight_wall(made)))
 print(solved(*drawers(5, 4), []))
 """
 
@@ -41,6 +52,8 @@ def questions(machine, paper):
     stand = first_stands(machine)[0]
     row = [tuple(1 for name in machine.switches)] * 3
     numbers = Numbers(machine)
+    steps = Steps(machine, 3)
+    wall = tight_wall(machine)
     return [
         lambda: machine_text(machine),
         lambda: fields(read_machine(machine_text(machine))),
@@ -60,6 +73,13 @@ def questions(machine, paper):
         lambda: clause_behind(CLAUSES, paper),
         lambda: numbers.clauses(),
         lambda: (numbers.many(), numbers.number("1")),
+        lambda: steps.clauses(),
+        lambda: (steps.many(), steps.number("1", 2)),
+        lambda: steps.run_of(solved(steps.many(), steps.clauses(), [])[1]),
+        lambda: [shortest_row(machine, name, 3) for name in list(machine.nevers) + list(machine.somes)],
+        lambda: [none_shown(machine, wish, most, [paper]) for most in range(3)],
+        lambda: wall_fault(machine, wish, wall),
+        lambda: wall_papers(machine, wish, wall) if wall_fault(machine, wish, wall) is None else None,
     ]
 
 
