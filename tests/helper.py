@@ -1,11 +1,13 @@
 """What several tests share: machines and walls made by a seed, and plain reckonings to hold answers against.
 
-Nothing here asks the program for more than the class Machine: what it tells is reckoned anew.
+Nothing here asks the program for more than the classes Machine and Numbers: what it tells is reckoned anew.
 """
 
 import itertools
+import random
 
 from everguard.machines import Machine
+from everguard.numbers import Numbers
 
 FIELDS = ("switches", "keepers", "gates", "nexts", "nevers", "somes")
 
@@ -224,6 +226,68 @@ def tight_wall(machine):
     """The wall that is kept by just the stands that can be come to."""
     reached = {stand for ring in rings(machine) for stand in ring}
     return [piece_against(machine, stand) for stand in tuples(len(machine.keepers)) if stand not in reached]
+
+
+FAULTS = ("first", "step", "never")
+
+
+def wall_faults(machine, wish, wall):
+    """All faults of a wall by the words of the document, each as it would be told."""
+    def breaks(stand, piece):
+        return not any(literal_at(machine, stand, literal) for literal in piece)
+
+    found = []
+    for number, piece in enumerate(wall):
+        found += [("first", number, stand) for stand in reckoned_firsts(machine) if breaks(stand, piece)]
+    for stand in tuples(len(machine.keepers)):
+        if keeps_wall(machine, stand, wall):
+            for told in tuples(len(machine.switches)):
+                behind = reckoned_step(machine, stand, told)
+                found += [("step", number, stand, told) for number, piece in enumerate(wall) if breaks(behind, piece)]
+                if bit_of(reckoned(machine, stand, told), machine.nevers[wish]):
+                    found.append(("never", stand, told))
+    return found
+
+
+def fault_due(machine, wish, wall):
+    """The first fault that is due, or None."""
+    found = wall_faults(machine, wish, wall)
+    return min(found, key=lambda fault: (FAULTS.index(fault[0]),) + fault[1:]) if found else None
+
+
+def piece_wants(machine, piece):
+    """The numbers that are so where the piece is broken at the next step, as [53] tells them."""
+    numbers = Numbers(machine)
+    told = []
+    for literal in piece:
+        ahead = machine.nexts.get(literal.lstrip("~"), literal.lstrip("~"))
+        told.append(numbers.number(ahead) if literal[0] == "~" else -numbers.number(ahead))
+    return told
+
+
+def some_wall(rng, machine):
+    """A wall of some wishes, or what is nearly one, or something drawn."""
+    kind = rng.randrange(4)
+    wall = tight_wall(machine)
+    rng.shuffle(wall)
+    if kind == 0:
+        return wall
+    if kind == 1:
+        wall = [tuple(part for part in piece if rng.randrange(4)) for piece in wall]
+        return [piece for piece in wall if rng.randrange(3)]
+    if kind == 2:
+        return wall[: rng.randint(0, len(wall))] + [drawn_piece(rng, machine, 3)] * rng.randint(0, 2)
+    return [drawn_piece(rng, machine, rng.randint(0, 3)) for count in range(rng.randint(0, 3))]
+
+
+def small_machines(seed, count):
+    """(rng, machine, wish) for each wish of never of drawn machines."""
+    rng = random.Random(seed)
+    for place in range(count):
+        made = some_machine if place % 2 else tangled_machine
+        machine = made(rng, rng.randint(0, 2), rng.randint(0 if place % 2 else 1, 4), rng.randint(4, 14))
+        for wish in machine.nevers:
+            yield rng, machine, wish
 
 
 def drawers(things, places):

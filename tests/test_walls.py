@@ -10,71 +10,9 @@ from everguard.machines import Machine
 from everguard.numbers import Numbers
 from everguard.walls import wall_fault, wall_papers
 from helper import (
-    bit_of, counter_machine, drawn_piece, fields, keeps_wall, literal_at, reckoned, reckoned_firsts, reckoned_step,
-    refutes, shortest_count, some_machine, tangled_machine, tight_wall, tuples,
+    counter_machine, fields, fault_due, piece_wants, refutes, shortest_count, small_machines, some_machine, some_wall,
+    tight_wall,
 )
-
-ORDER = ("first", "step", "never")
-
-
-def all_faults(machine, wish, wall):
-    """All faults by the words of the document, each as it would be told."""
-    def breaks(stand, piece):
-        return not any(literal_at(machine, stand, literal) for literal in piece)
-
-    found = []
-    for number, piece in enumerate(wall):
-        found += [("first", number, stand) for stand in reckoned_firsts(machine) if breaks(stand, piece)]
-    for stand in tuples(len(machine.keepers)):
-        if keeps_wall(machine, stand, wall):
-            for told in tuples(len(machine.switches)):
-                behind = reckoned_step(machine, stand, told)
-                found += [("step", number, stand, told) for number, piece in enumerate(wall) if breaks(behind, piece)]
-                if bit_of(reckoned(machine, stand, told), machine.nevers[wish]):
-                    found.append(("never", stand, told))
-    return found
-
-
-def due(machine, wish, wall):
-    """The first fault that is due, or None."""
-    found = all_faults(machine, wish, wall)
-    return min(found, key=lambda fault: (ORDER.index(fault[0]),) + fault[1:]) if found else None
-
-
-def wants_of(machine, piece):
-    """The numbers of where the piece is broken at the next step, as [53] tells them."""
-    numbers = Numbers(machine)
-    told = []
-    for literal in piece:
-        ahead = machine.nexts.get(literal.lstrip("~"), literal.lstrip("~"))
-        told.append(numbers.number(ahead) if literal[0] == "~" else -numbers.number(ahead))
-    return told
-
-
-def some_wall(rng, machine, wish):
-    """A wall, or what is nearly one, or something drawn."""
-    kind = rng.randrange(4)
-    wall = tight_wall(machine)
-    rng.shuffle(wall)
-    if kind == 0:
-        return wall
-    if kind == 1:
-        wall = [tuple(part for part in piece if rng.randrange(4)) for piece in wall]
-        return [piece for piece in wall if rng.randrange(3)]
-    if kind == 2:
-        return wall[: rng.randint(0, len(wall))] + [drawn_piece(rng, machine, 3)] * rng.randint(0, 2)
-    return [drawn_piece(rng, machine, rng.randint(0, 3)) for count in range(rng.randint(0, 3))]
-
-
-def small_machines(seed, count):
-    """(rng, machine, wish) for each wish of never of drawn machines."""
-    rng = random.Random(seed)
-    for place in range(count):
-        made = some_machine if place % 2 else tangled_machine
-        machine = made(rng, rng.randint(0, 2), rng.randint(0 if place % 2 else 1, 4), rng.randint(4, 14))
-        for wish in machine.nevers:
-            yield rng, machine, wish
-
 
 TOGGLE = "switch s\nkeep a 0\nkeep b 0\ngate p s ~a\ngate q ~s a\ngate u ~p ~q\nnext a ~u\nnext b a\n"
 
@@ -128,10 +66,10 @@ class Faults(unittest.TestCase):
         met = {}
         for rng, machine, wish in small_machines(521, 160):
             for count in range(5):
-                wall = some_wall(rng, machine, wish)
+                wall = some_wall(rng, machine)
                 handed = (copy.deepcopy(wall), fields(machine))
                 told = wall_fault(machine, wish, wall)
-                self.assertEqual(told, due(machine, wish, wall), (wall, fields(machine)))
+                self.assertEqual(told, fault_due(machine, wish, wall), (wall, fields(machine)))
                 self.assertEqual((wall, fields(machine)), handed)
                 met[told and told[0]] = met.get(told and told[0], 0) + 1
         self.assertEqual(set(met), {None, "first", "step", "never"})
@@ -159,7 +97,7 @@ class Papers(unittest.TestCase):
         numbers = Numbers(machine)
         clauses = numbers.clauses() + [[numbers.number(literal) for literal in piece] for piece in wall]
         for piece, paper in zip(wall, papers):
-            wants = wants_of(machine, piece)
+            wants = piece_wants(machine, piece)
             if any(-want in wants for want in wants):
                 self.assertIsNone(paper)
             else:
@@ -229,9 +167,9 @@ class Papers(unittest.TestCase):
         met = {}
         for rng, machine, wish in small_machines(531, 120):
             for count in range(4):
-                wall = some_wall(rng, machine, wish)
+                wall = some_wall(rng, machine)
                 handed = (copy.deepcopy(wall), fields(machine))
-                fault = due(machine, wish, wall)
+                fault = fault_due(machine, wish, wall)
                 if fault is None:
                     told = wall_papers(machine, wish, wall)
                     self.right(machine, wish, wall, told)

@@ -7,15 +7,19 @@ import subprocess
 import sys
 import unittest
 
+from everguard.checking import wall_shown
+from everguard.guarding import guarded
 from everguard.machines import Machine, next_of, turned
 from everguard.machinetext import machine_text, read_machine
 from everguard.numbers import Numbers
 from everguard.plain import plain_answer
 from everguard.refuting import clause_behind, refuted
+from everguard.rings import ring_answer, ring_shown
 from everguard.rows import none_shown, shortest_row
 from everguard.running import comes_there, first_stands, is_first, stepped, value_of, values_at, walked
 from everguard.solving import solved
 from everguard.steps import Steps
+from everguard.trees import both, either, holds, opposite, put_for, some_of
 from everguard.walls import wall_fault, wall_papers
 from helper import counter_machine, drawers, fields, some_machine, tight_wall
 
@@ -23,12 +27,15 @@ MANY, CLAUSES = drawers(4, 3)
 
 ASKED_ELSEWHERE = """
 import random
+from everguard.guarding import guarded
 from everguard.machinetext import machine_text
 from everguard.numbers import Numbers
 from everguard.plain import plain_answer
+from everguard.rings import ring_answer
 from everguard.rows import shortest_row
 from everguard.solving import solved
 from everguard.steps import Steps
+from everguard.trees import both, put_for
 from everguard.walls import wall_fault, wall_papers
 from helper import drawers, some_machine, tight_wall
 rng = random.Random(7)
@@ -39,11 +46,19 @@ for count in range(8):
     print(numbers.clauses(), solved(numbers.many(), numbers.clauses(), [numbers.number(made.gates[-1][0])]))
     print(Steps(made, 2).clauses(), [shortest_row(made, wish, 3) for wish in list(made.nevers) + list(made.somes)])
     for wish in made.nevers:
+        print(guarded(made, wish), ring_answer(made, wish, 4))
         print(wall_fault(made, wish, tight_wall(made)))
         if plain_answer(made, wish)[0] == "wall":
             print(wall_papers(made, wish, tight_wall(made)))
 print(solved(*drawers(5, 4), []))
+tree = ("a", ("c", True, False), ("b", False, ("c", False, True)))
+order = ["a", "b", "c"]
+print(both(order, tree, ("b", False, True)), put_for(order, tree, {"a": ("b", True, False), "c": tree}))
 """
+
+ORDER = ["a", "b", "c"]
+TREE = ("a", ("c", True, False), ("b", False, ("c", False, True)))
+GIVEN = {"a": ("b", True, False), "c": TREE}
 
 
 def questions(machine, paper):
@@ -80,6 +95,12 @@ def questions(machine, paper):
         lambda: [none_shown(machine, wish, most, [paper]) for most in range(3)],
         lambda: wall_fault(machine, wish, wall),
         lambda: wall_papers(machine, wish, wall) if wall_fault(machine, wish, wall) is None else None,
+        lambda: wall_shown(machine, wish, wall, ([paper] * len(wall), paper)),
+        lambda: [guarded(machine, name) for name in machine.nevers],
+        lambda: [ring_answer(machine, name, 3) for name in machine.nevers],
+        lambda: [ring_shown(machine, name, 1, ([paper], [(0, 1)], paper)) for name in machine.nevers],
+        lambda: (both(ORDER, TREE, GIVEN["a"]), either(ORDER, TREE, GIVEN["a"]), opposite(TREE)),
+        lambda: (some_of(ORDER, TREE, ORDER[1:]), put_for(ORDER, TREE, GIVEN), holds(TREE, {"a": 0, "c": 1})),
     ]
 
 
@@ -123,13 +144,13 @@ class Whole(unittest.TestCase):
 
     def test_what_was_handed_in_stays(self):
         paper = solved(MANY, CLAUSES, [])[1]
-        kept = copy.deepcopy((paper, CLAUSES))
+        kept = copy.deepcopy((paper, CLAUSES, ORDER, GIVEN))
         for machine in self.machines():
             before = fields(machine)
             for question in questions(machine, paper):
                 question()
             self.assertEqual(fields(machine), before)
-        self.assertEqual((paper, CLAUSES), kept)
+        self.assertEqual((paper, CLAUSES, ORDER, GIVEN), kept)
 
     def test_rows_and_values_handed_in_stay(self):
         machine = read_machine("switch s\nkeep k 0\nnext k s\nnever w k")
@@ -169,6 +190,26 @@ class Whole(unittest.TestCase):
         self.assertIs(refuted(clauses, [], paper), True)
         numbers = Numbers(some_machine(random.Random(2), 12, 16, 60))
         self.assertEqual(solved(numbers.many(), numbers.clauses(), [])[0], "yes")
+
+    def test_answers_may_be_handed_on_from_one_to_the_other(self):
+        met = {"row": 0, "wall": 0, "ring": 0}
+        for machine in self.machines():
+            for wish in machine.nevers:
+                answer = guarded(machine, wish)
+                if answer[0] == "row":
+                    self.assertIs(comes_there(machine, wish, answer[1], answer[2]), True)
+                else:
+                    self.assertIs(wall_shown(machine, wish, answer[1], wall_papers(machine, wish, answer[1])), True)
+                    told = shortest_row(machine, wish, 3)
+                    self.assertEqual(told[0], "none")
+                    self.assertIs(none_shown(machine, wish, 3, told[1]), True)
+                ring = ring_answer(machine, wish, 3)
+                if ring[0] == "ring":
+                    self.assertEqual(answer[0], "wall")
+                    self.assertIs(ring_shown(machine, wish, ring[1], ring[2]), True)
+                    met["ring"] += 1
+                met[answer[0]] += 1
+        self.assertGreater(min(met.values()), 4, met)
 
     def test_machines_somewhat_beyond_the_bounds_are_not_refused(self):
         keepers = {"k" + letter: 0 for letter in "abcdefghijklmnopqr"}
