@@ -236,12 +236,14 @@ class Chance(Ringing):
             self.assertIs(ring_shown(machine, "w", k, (rows, pairs, paper)), False, paper)
 
     def test_pairs_that_are_none(self):
-        # The wish never comes to be, but it lacks the ring of one step: the keeper m may be 1 at a stand that is no first one.
-        machine = read_machine("keep k 0\nkeep m 0\nnext k m\nnever w k")
+        # The wish never comes to be, but it lacks the ring of one step: from a stand that can't be come to k becomes 1.
+        self.no_pair_is_taken(read_machine("keep k 0\nkeep m 0\nnext k m\nnever w k"))
+        self.no_pair_is_taken(read_machine("keep k 0\nkeep m 1\nnext k ~m\ngate g k m\ngate h k m\nnever w k"))
+
+    def no_pair_is_taken(self, machine):
         self.assertEqual((has_ring(machine, "w", 1), shortest_count(machine, "w")), (False, None))
         rows = shortest_row(machine, "w", 1)[1]
         steps = Steps(machine, 2)
-        want = steps.number("k", 1)
         forged = 0
         for pair in itertools.product(range(-2, 5), repeat=2):
             # Were a stand told to be unlike itself, or one that is not there, papers could be had.
@@ -249,9 +251,10 @@ class Chance(Ringing):
             clauses = [sorted(set(clause)) for clause in clauses]
             if not any(0 in clause or any(-number in clause for number in clause) for clause in clauses):
                 most = max(abs(number) for clause in clauses for number in clause)
-                answer = solved(most, clauses, [want])
-                forged += answer[0] == "no"
-                self.assertIs(ring_shown(machine, "w", 1, (rows, [pair], answer[1] if answer[0] == "no" else ([], 0))), False)
+                answer = solved(most, clauses, [steps.number("k", 1)])
+                if answer[0] == "no":
+                    forged += 1
+                    self.assertIs(ring_shown(machine, "w", 1, (rows, [pair], answer[1])), False, pair)
             for last in range(len(clauses)):
                 self.assertIs(ring_shown(machine, "w", 1, (rows, [pair], ([], last))), False)
         self.assertGreater(forged, 1)
