@@ -119,8 +119,7 @@ class Search:
         self.widen(many)
 
     def widen(self, many):
-        """Let there be so many variables, no fewer than there are; what was put is taken back."""
-        self.take_back_all()
+        """Let there be so many variables, no fewer than there are, from the next question on."""
         more = many - self.size
         middle = self.size + 1
         self.bits = self.bits[:middle] + [0] * (2 * more) + self.bits[middle:]
@@ -134,8 +133,7 @@ class Search:
         self.size = many
 
     def take(self, clauses):
-        """Take further given clauses, between two questions."""
-        self.take_back_all()
+        """Take further given clauses, from the next question on."""
         for clause in clauses:
             self.ranks[len(self.held)] = len(self.ranks)
             self.held.append(list(clause))
