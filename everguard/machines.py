@@ -34,3 +34,8 @@ def literal_of_wish(machine, wish):
     if wish in machine.nevers:
         return machine.nevers[wish]
     return machine.somes[wish]
+
+
+def names_of(machine):
+    """The names of all switches, keepers and gates, in that order."""
+    return machine.switches + list(machine.keepers) + [gate[0] for gate in machine.gates]

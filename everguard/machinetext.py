@@ -26,14 +26,22 @@ MOST_WISHES = 8
 def read_machine(text):
     """The machine of a text; the first row at fault is refused with BadMachine."""
     machine = Machine([], {}, [], {}, {}, {})
+    for place, words in rows_of(text):
+        fault = fault_of(machine, words)
+        if fault is not None:
+            raise BadMachine(place, fault)
+        take_row(machine, words)
+    return machine
+
+
+def rows_of(text):
+    """(place, words) for each row that has words."""
+    rows = []
     for place, row in enumerate(text.split("\n")):
         words = [word for word in row.split(" ") if word != ""]
         if len(words) > 0:
-            fault = fault_of(machine, words)
-            if fault is not None:
-                raise BadMachine(place, fault)
-            take_row(machine, words)
-    return machine
+            rows.append((place, words))
+    return rows
 
 
 def fault_of(machine, words):

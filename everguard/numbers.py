@@ -1,12 +1,14 @@
 """A machine's one step as clauses."""
 
+from everguard.machines import names_of
+
 
 class Numbers:
     """Variables for all switches, keepers and gates, and behind them one for the literal 1."""
 
     def __init__(self, machine):
         self.gates_told = list(machine.gates)
-        names = machine.switches + list(machine.keepers) + [gate[0] for gate in machine.gates]
+        names = names_of(machine)
         self.variables = {}
         for name in names:
             self.variables[name] = len(self.variables) + 1

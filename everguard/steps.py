@@ -1,5 +1,6 @@
 """A machine's runs of so many inputs as clauses."""
 
+from everguard.machines import names_of
 from everguard.machines import next_of
 from everguard.numbers import gate_clauses
 
@@ -16,8 +17,7 @@ class Steps:
         self.keepers = dict(machine.keepers)
         self.gates = list(machine.gates)
         self.moves = [(keeper, next_of(machine, keeper)) for keeper in machine.keepers]
-        names = self.switches + list(self.keepers) + [gate[0] for gate in self.gates]
-        self.offsets = dict([(name, offset) for offset, name in enumerate(names, start=2)])
+        self.offsets = dict([(name, offset) for offset, name in enumerate(names_of(machine), start=2)])
 
     def number(self, literal, k):
         """The literal's number at the step k; a turned one's has a minus."""

@@ -146,3 +146,27 @@ class Forest:
             name = self.names[node[0]]
             made[number] = self.chosen(trees[name] if name in trees else self.leaf_of(name), high, low)
         return made[number]
+
+    def way_in(self, number, fixed):
+        """Bits for the names on a way to True, where those of the dict fixed have theirs; there must be one."""
+        bits = {}
+        while number > 1:
+            node = self.nodes[number]
+            name = self.names[node[0]]
+            bits[name] = fixed.get(name, 1 if node[1] == 0 else 0)
+            number = node[1 + bits[name]]
+        return bits
+
+    def names_in(self, number):
+        """A dict of the names that the tree asks for."""
+        found = {}
+        seen = {}
+        waiting = [number]
+        while len(waiting) > 0:
+            number = waiting.pop()
+            if number > 1 and number not in seen:
+                seen[number] = True
+                node = self.nodes[number]
+                found[self.names[node[0]]] = True
+                waiting.extend([node[1], node[2]])
+        return found

@@ -18,6 +18,12 @@ def fields(machine):
     return [list(field.items()) if isinstance(field, dict) else list(field) for field in told]
 
 
+def empty(machine):
+    """Take all out of the fields of a machine that was told."""
+    for name in FIELDS:
+        getattr(machine, name).clear()
+
+
 def names(count):
     """Unlike names, some of one letter, some of eight."""
     letters = "abcdefghijklmnopqrstuvwxyz"
@@ -316,3 +322,263 @@ def counter_machine(count):
         nexts[name] = "x" + tail
         carry = "c" + tail
     return Machine([], keepers, gates, nexts, {"full": carry}, {"half": carry})
+
+
+class Builder:
+    """Gates put together by a test: each call makes them and tells the literal."""
+
+    def __init__(self):
+        self.gates = []
+
+    def both(self, one, other):
+        place = len(self.gates)
+        self.gates.append(("g" + chr(ord("a") + place // 26) + chr(ord("a") + place % 26), one, other))
+        return self.gates[-1][0]
+
+    def unlike(self, one, other):
+        return self.both("~" + self.both(one, other), "~" + self.both(other_of(one), other_of(other)))
+
+
+def other_of(literal):
+    return literal[1:] if literal[0] == "~" else "~" + literal
+
+
+def letters(ahead, count):
+    return [ahead + chr(ord("a") + place) for place in range(count)]
+
+
+def token_machine(count):
+    """One of so many keepers is 1 at first, and a switch lets it be handed on round the ring; never two side by side."""
+    named = letters("k", count)
+    build = Builder()
+    nexts = {}
+    for place, name in enumerate(named):
+        stays = build.both(name, "~go")
+        comes = build.both(named[place - 1], "go")
+        nexts[name] = "~" + build.both("~" + stays, "~" + comes)
+    beside = build.both(named[0], named[1])
+    firsts = {name: int(place == 0) for place, name in enumerate(named)}
+    return Machine(["go"], firsts, build.gates, nexts, {"two": beside, "far": named[-1]}, {})
+
+
+def even_machine(count):
+    """Each switch turns two keepers that lie side by side; their sum must never be odd."""
+    named, switches = letters("k", count), letters("s", count - 1)
+    build = Builder()
+    nexts = {}
+    for place, name in enumerate(named):
+        nexts[name] = name
+        for beside in (place - 1, place):
+            if 0 <= beside < len(switches):
+                nexts[name] = build.unlike(nexts[name], switches[beside])
+    total = named[0]
+    for name in named[1:]:
+        total = build.unlike(total, name)
+    return Machine(switches, dict.fromkeys(named, 0), build.gates, nexts, {"odd": total}, {})
+
+
+def full_machine(count):
+    """Twelve switches, sixteen keepers, sixty gates: pairs of keepers that become alike, but for `count` of them."""
+    switches = letters("s", 12)
+    ones, others = letters("a", 8), letters("b", 8)
+    build = Builder()
+    nexts = {}
+    for place, (one, other) in enumerate(zip(ones, others)):
+        nexts[one] = build.unlike(one, switches[place])
+        nexts[other] = nexts[one] if place >= count else build.unlike(nexts[one], build.both(one, switches[8 + place % 4]))
+    unlike = build.both("~" + build.both(ones[7], others[7]), "~" + build.both("~" + ones[7], "~" + others[7]))
+    apart = build.both(ones[0], "~" + others[0])
+    while len(build.gates) < 60:
+        build.both(build.gates[-1][0], switches[len(build.gates) % 12])
+    firsts = dict.fromkeys(ones + others, 0)
+    return Machine(switches, firsts, build.gates, nexts, {"unlike": unlike, "apart": apart}, {})
+
+
+def plain_tree(order, bits):
+    """The tree over the order of the set of tuples of bits, made by going through all of them."""
+    if not order:
+        return () in bits
+    low = plain_tree(order[1:], {row[1:] for row in bits if row[0] == 0})
+    high = plain_tree(order[1:], {row[1:] for row in bits if row[0] == 1})
+    return low if low == high else (order[0], low, high)
+
+
+def knotted_machine(rng, switches, keepers, gates):
+    """A machine whose keepers become sums and choices of keepers and switches, and whose wishes ask for many keepers."""
+    named, switch_names = letters("k", keepers), letters("s", switches)
+    build = Builder()
+    pool = named + switch_names
+    style = rng.randrange(3)
+
+    def drawn(known):
+        return rng.choice(("", "~")) + rng.choice(known)
+
+    nexts = {}
+    for name in rng.sample(named, len(named)):
+        kind = style if style < 2 else rng.randrange(2)
+        if len(build.gates) + 4 + keepers > gates:
+            nexts[name] = drawn(named)
+        elif kind:
+            nexts[name] = build.unlike(drawn(named), build.both(drawn(named), drawn(pool)))
+        else:
+            nexts[name] = rng.choice(("", "~")) + build.both(drawn(named), drawn(pool))
+    asked = named[0]
+    for name in rng.sample(named[1:], len(named[1:]) * 2 // 3):
+        asked = build.both(asked, rng.choice(("", "~")) + name)
+    while len(build.gates) < gates:
+        build.both(drawn(pool), drawn(pool))
+    firsts = {name: rng.choice((0, 0, 1)) if rng.randrange(12) else None for name in named}
+    few = build.gates[-1][0]
+    nevers = {"many": asked, "few": few}
+    return Machine(switch_names, firsts, build.gates, nexts, nevers, {"all": other_of(asked), "one": few, "other": "~" + few})
+
+
+def knotted_machines(seed, count):
+    """(rng, machine, wish) for each wish of never of small knotted machines."""
+    rng = random.Random(seed)
+    for place in range(count):
+        machine = knotted_machine(rng, rng.randint(0, 1), rng.randint(2, 5), rng.randint(12, 30))
+        for wish in machine.nevers:
+            yield rng, machine, wish
+
+
+def great_machines(seed, count, switches=12):
+    """(rng, machine) for drawn machines of sixteen keepers and sixty gates."""
+    rng = random.Random(seed)
+    for place in range(count):
+        made = (some_machine, tangled_machine, knotted_machine)[place % 3]
+        yield rng, made(rng, switches, 16, 60)
+
+
+def all_names(machine):
+    """All switches, keepers and gates, in that order."""
+    return list(machine.switches) + list(machine.keepers) + [gate[0] for gate in machine.gates]
+
+
+def all_literals(machine):
+    """All literals that the machine may speak of."""
+    return ["0", "1"] + [ahead + name for name in all_names(machine) for ahead in ("", "~")]
+
+
+def goal_of(names, literal):
+    """The literal that a literal goes to in a round with these names."""
+    if literal in ("0", "1"):
+        return literal
+    goal = names[literal.lstrip("~")]
+    return other_of(goal) if literal[0] == "~" and goal not in ("0", "1") else (
+        {"0": "1", "1": "0"}[goal] if literal[0] == "~" else goal)
+
+
+def form_fault(machine, made):
+    """What is wrong with a round by the words of [91] that speak of its form, or None."""
+    small, names = made
+    if list(names) != all_names(machine):
+        return "names"
+    left = [name for name in names if names[name] == name]
+    if all_names(small) != left:
+        return "what is left"
+    if list(small.keepers.items()) != [(name, first) for name, first in machine.keepers.items() if name in left]:
+        return "first bits"
+    if any(names[name] not in (name, None) for name in machine.switches):
+        return "switches"
+    ends = ["0", "1", None] + [ahead + name for name in small.keepers for ahead in ("", "~")]
+    if any(names[name] not in ends for name in machine.keepers):
+        return "keepers"
+    if any(goal is not None and goal not in all_literals(small) for goal in names.values()):
+        return "goals"
+    for wishes, fewer in ((machine.nevers, small.nevers), (machine.somes, small.somes)):
+        if list(fewer) != [wish for wish in wishes if wish in fewer]:
+            return "wishes"
+        if any(fewer[wish] != goal_of(names, wishes[wish]) for wish in fewer):
+            return "wishes' literals"
+    return None
+
+
+def left_bits(order, fewer, bits):
+    """Of bits in one order those in the other, which is a part of it."""
+    values = dict(zip(order, bits))
+    return tuple(values[name] for name in fewer)
+
+
+def goes_along(machine, made, stand, told):
+    """Whether the round's machine has its values as the names go, and steps along, at the stand with the input."""
+    small, names = made
+    values = reckoned(machine, stand, told)
+    here = left_bits(machine.keepers, small.keepers, stand)
+    given = left_bits(machine.switches, small.switches, told)
+    there = reckoned(small, here, given)
+    if any(goal is not None and bit_of(there, goal) != values[name] for name, goal in names.items()):
+        return False
+    behind = left_bits(machine.keepers, small.keepers, reckoned_step(machine, stand, told))
+    return behind == reckoned_step(small, here, given)
+
+
+def round_fault(machine, made):
+    """What is wrong with a round by the words of [91], all runs gone through both ways, or None.
+
+    A run of the one settles that of the other by the bits of what is left. So it is enough that these go along at each
+    stand that can be come to with each input, and that each first stand of the one is met by one of the other.
+    """
+    fault = form_fault(machine, made)
+    if fault is not None:
+        return fault
+    small = made[0]
+    met = {left_bits(machine.keepers, small.keepers, stand) for stand in reckoned_firsts(machine)}
+    if met != set(reckoned_firsts(small)):
+        return "first stands"
+    for stand in [stand for ring in rings(machine) for stand in ring]:
+        for told in tuples(len(machine.switches)):
+            if not goes_along(machine, made, stand, told):
+                return f"the stand {stand} with the input {told}"
+    return None
+
+
+def drawn_run_fault(rng, machine, made, count):
+    """The same, but for a drawn run of so many inputs."""
+    fault = form_fault(machine, made)
+    stand = tuple(rng.randrange(2) if first is None else first for first in machine.keepers.values())
+    for place in range(count):
+        told = tuple(rng.randrange(2) for name in machine.switches)
+        if fault is None and not goes_along(machine, made, stand, told):
+            fault = f"the input {place}"
+        stand = reckoned_step(machine, stand, told)
+    return fault
+
+
+def is_idle(machine, made):
+    """Whether each name and each wish goes to itself in the round."""
+    small, names = made
+    return fields(small) == fields(machine) and all(goal == name for name, goal in names.items())
+
+
+def mixed_machines(seed, count):
+    """(rng, machine) for small drawn machines, some of which have much that is settled or alike."""
+    rng = random.Random(seed)
+    for place in range(count):
+        made = (some_machine, tangled_machine, twofold_machine)[place % 3]
+        yield rng, made(rng, rng.randint(0, 2), rng.randint(1, 4), rng.randint(4, 14))
+
+
+def twofold_machine(rng, switches, keepers, gates):
+    """A drawn machine in which much stands twice, more or less: a gate again with its literals changed over, and so on."""
+    plain = some_machine(rng, switches, max(1, keepers // 2), max(1, gates // 2))
+    second = {name: name + "z" for name in plain.keepers}
+    second.update({gate[0]: gate[0] + "z" for gate in plain.gates})
+
+    def again(literal):
+        name = literal.lstrip("~")
+        if name not in second or not rng.randrange(8):
+            return literal
+        return literal[: -len(name)] + second[name]
+
+    firsts = dict(plain.keepers)
+    firsts.update({second[name]: first for name, first in plain.keepers.items()})
+    made = []
+    for name, one, other in plain.gates:
+        pair = [again(one), again(other)]
+        rng.shuffle(pair)
+        made += [(name, one, other), (second[name], pair[0], pair[1])]
+    nexts = dict(plain.nexts)
+    nexts.update({second[name]: again(literal) for name, literal in plain.nexts.items()})
+    nevers = {"same": plain.gates[-1][0], "second": second[plain.gates[-1][0]]}
+    return Machine(plain.switches, firsts, made, nexts, nevers, {"some": "~" + second[plain.gates[-1][0]]})

@@ -11,79 +11,9 @@ from everguard.numbers import Numbers
 from everguard.running import comes_there
 from everguard.walls import wall_papers
 from helper import (
-    bit_of, counter_machine, fault_due, fields, literal_at, piece_wants, reckoned, reckoned_step, refutes, rings,
-    shortest_count, small_machines, some_machine, tangled_machine,
+    bit_of, counter_machine, even_machine, fault_due, fields, full_machine, literal_at, piece_wants, reckoned,
+    reckoned_step, refutes, rings, shortest_count, small_machines, some_machine, tangled_machine, token_machine,
 )
-
-
-class Builder:
-    """Gates put together by a test: each call makes them and tells the literal."""
-
-    def __init__(self):
-        self.gates = []
-
-    def both(self, one, other):
-        place = len(self.gates)
-        self.gates.append(("g" + chr(ord("a") + place // 26) + chr(ord("a") + place % 26), one, other))
-        return self.gates[-1][0]
-
-    def unlike(self, one, other):
-        return self.both("~" + self.both(one, other), "~" + self.both(other_of(one), other_of(other)))
-
-
-def other_of(literal):
-    return literal[1:] if literal[0] == "~" else "~" + literal
-
-
-def letters(ahead, count):
-    return [ahead + chr(ord("a") + place) for place in range(count)]
-
-
-def token_machine(count):
-    """One of so many keepers is 1 at first, and a switch lets it be handed on round the ring; never two side by side."""
-    named = letters("k", count)
-    build = Builder()
-    nexts = {}
-    for place, name in enumerate(named):
-        stays = build.both(name, "~go")
-        comes = build.both(named[place - 1], "go")
-        nexts[name] = "~" + build.both("~" + stays, "~" + comes)
-    beside = build.both(named[0], named[1])
-    firsts = {name: int(place == 0) for place, name in enumerate(named)}
-    return Machine(["go"], firsts, build.gates, nexts, {"two": beside, "far": named[-1]}, {})
-
-
-def even_machine(count):
-    """Each switch turns two keepers that lie side by side; their sum must never be odd."""
-    named, switches = letters("k", count), letters("s", count - 1)
-    build = Builder()
-    nexts = {}
-    for place, name in enumerate(named):
-        nexts[name] = name
-        for beside in (place - 1, place):
-            if 0 <= beside < len(switches):
-                nexts[name] = build.unlike(nexts[name], switches[beside])
-    total = named[0]
-    for name in named[1:]:
-        total = build.unlike(total, name)
-    return Machine(switches, dict.fromkeys(named, 0), build.gates, nexts, {"odd": total}, {})
-
-
-def full_machine(count):
-    """Twelve switches, sixteen keepers, sixty gates: pairs of keepers that become alike, but for `count` of them."""
-    switches = letters("s", 12)
-    ones, others = letters("a", 8), letters("b", 8)
-    build = Builder()
-    nexts = {}
-    for place, (one, other) in enumerate(zip(ones, others)):
-        nexts[one] = build.unlike(one, switches[place])
-        nexts[other] = nexts[one] if place >= count else build.unlike(nexts[one], build.both(one, switches[8 + place % 4]))
-    unlike = build.both("~" + build.both(ones[7], others[7]), "~" + build.both("~" + ones[7], "~" + others[7]))
-    apart = build.both(ones[0], "~" + others[0])
-    while len(build.gates) < 60:
-        build.both(build.gates[-1][0], switches[len(build.gates) % 12])
-    firsts = dict.fromkeys(ones + others, 0)
-    return Machine(switches, firsts, build.gates, nexts, {"unlike": unlike, "apart": apart}, {})
 
 
 class Guarding(unittest.TestCase):

@@ -6,16 +6,7 @@ import random
 import unittest
 
 from everguard.trees import both, either, holds, opposite, put_for, some_of
-from helper import tuples
-
-
-def plain_tree(order, bits):
-    """The tree over the order of the set of tuples of bits, made by going through all of them."""
-    if not order:
-        return () in bits
-    low = plain_tree(order[1:], {row[1:] for row in bits if row[0] == 0})
-    high = plain_tree(order[1:], {row[1:] for row in bits if row[0] == 1})
-    return low if low == high else (order[0], low, high)
+from helper import plain_tree, tuples
 
 
 def bits_of(order, tree):

@@ -7,8 +7,11 @@ import subprocess
 import sys
 import unittest
 
+from everguard.alike import by_alike
 from everguard.checking import wall_shown
+from everguard.cones import by_cone
 from everguard.guarding import guarded
+from everguard.halving import ahead_of, halving_answer, order_of, rings_to, tree_of
 from everguard.machines import Machine, next_of, turned
 from everguard.machinetext import machine_text, read_machine
 from everguard.numbers import Numbers
@@ -17,27 +20,32 @@ from everguard.refuting import clause_behind, refuted
 from everguard.rings import ring_answer, ring_shown
 from everguard.rows import none_shown, shortest_row
 from everguard.running import comes_there, first_stands, is_first, stepped, value_of, values_at, walked
+from everguard.settled import by_settled
 from everguard.solving import solved
 from everguard.steps import Steps
 from everguard.trees import both, either, holds, opposite, put_for, some_of
 from everguard.walls import wall_fault, wall_papers
-from helper import counter_machine, drawers, fields, some_machine, tight_wall
+from helper import FIELDS, counter_machine, drawers, fields, some_machine, tight_wall
 
 MANY, CLAUSES = drawers(4, 3)
 
 ASKED_ELSEWHERE = """
 import random
+from everguard.alike import by_alike
+from everguard.cones import by_cone
 from everguard.guarding import guarded
+from everguard.halving import ahead_of, halving_answer, rings_to, tree_of
 from everguard.machinetext import machine_text
 from everguard.numbers import Numbers
 from everguard.plain import plain_answer
 from everguard.rings import ring_answer
 from everguard.rows import shortest_row
+from everguard.settled import by_settled
 from everguard.solving import solved
 from everguard.steps import Steps
 from everguard.trees import both, put_for
 from everguard.walls import wall_fault, wall_papers
-from helper import drawers, some_machine, tight_wall
+from helper import drawers, fields, some_machine, tight_wall
 rng = random.Random(7)
 for count in range(8):
     made = some_machine(rng, 3, 5, 12)
@@ -47,6 +55,8 @@ for count in range(8):
     print(Steps(made, 2).clauses(), [shortest_row(made, wish, 3) for wish in list(made.nevers) + list(made.somes)])
     for wish in made.nevers:
         print(guarded(made, wish), ring_answer(made, wish, 4))
+        print(rings_to(made, wish), halving_answer(made, wish), tree_of(made, made.nevers[wish]), ahead_of(made, True))
+        print([fields(small) + list(names.items()) for small, names in (by_cone(made, wish), by_settled(made), by_alike(made))])
         print(wall_fault(made, wish, tight_wall(made)))
         if plain_answer(made, wish)[0] == "wall":
             print(wall_papers(made, wish, tight_wall(made)))
@@ -99,18 +109,33 @@ def questions(machine, paper):
         lambda: [guarded(machine, name) for name in machine.nevers],
         lambda: [ring_answer(machine, name, 3) for name in machine.nevers],
         lambda: [ring_shown(machine, name, 1, ([paper], [(0, 1)], paper)) for name in machine.nevers],
+        lambda: (order_of(machine), tree_of(machine, machine.nevers[wish]), ahead_of(machine, True)),
+        lambda: [(rings_to(machine, name), halving_answer(machine, name)) for name in machine.nevers],
+        lambda: [by_cone(machine, name) for name in list(machine.nevers) + list(machine.somes)],
+        lambda: (by_settled(machine), by_alike(machine)),
         lambda: (both(ORDER, TREE, GIVEN["a"]), either(ORDER, TREE, GIVEN["a"]), opposite(TREE)),
         lambda: (some_of(ORDER, TREE, ORDER[1:]), put_for(ORDER, TREE, GIVEN), holds(TREE, {"a": 0, "c": 1})),
     ]
 
 
 def containers(told):
-    """All lists and dicts within what was told, itself among them."""
+    """All lists and dicts within what was told, itself and machines' fields among them."""
+    if isinstance(told, Machine):
+        told = tuple(getattr(told, name) for name in FIELDS)
     inner = list(told.values()) if isinstance(told, dict) else told if isinstance(told, (list, tuple)) else []
     found = [told] if isinstance(told, (list, dict)) else []
     for part in inner:
         found += containers(part)
     return found
+
+
+def plainly(told):
+    """A copy of what was told, machines as their fields."""
+    if isinstance(told, Machine):
+        return fields(told)
+    if isinstance(told, dict):
+        return {name: plainly(part) for name, part in told.items()}
+    return type(told)(plainly(part) for part in told) if isinstance(told, (list, tuple)) else told
 
 
 def spoil(told):
@@ -135,11 +160,11 @@ class Whole(unittest.TestCase):
         for machine in self.machines():
             asked = questions(machine, paper)
             before = fields(machine)
-            wanted = [copy.deepcopy(question()) for question in asked]
+            wanted = [plainly(question()) for question in asked]
             for question, answer in zip(asked, wanted):
                 spoil(question())
-                self.assertEqual(question(), answer)
-            self.assertEqual([question() for question in asked], wanted)
+                self.assertEqual(plainly(question()), answer)
+            self.assertEqual([plainly(question()) for question in asked], wanted)
             self.assertEqual(fields(machine), before)
 
     def test_what_was_handed_in_stays(self):
