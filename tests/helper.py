@@ -461,12 +461,21 @@ def all_literals(machine):
 
 
 def goal_of(names, literal):
-    """The literal that a literal goes to in a round with these names."""
+    """The literal that a literal goes to in a round with these names, or None."""
     if literal in ("0", "1"):
         return literal
     goal = names[literal.lstrip("~")]
-    return other_of(goal) if literal[0] == "~" and goal not in ("0", "1") else (
-        {"0": "1", "1": "0"}[goal] if literal[0] == "~" else goal)
+    if goal is None or literal[0] != "~":
+        return goal
+    return {"0": "1", "1": "0"}.get(goal, other_of(goal))
+
+
+def goals_through(machine, rounds):
+    """From each name of the machine to the literal that it goes to through all rounds, or None."""
+    goals = {name: name for name in all_names(machine)}
+    for small, names in rounds:
+        goals = {name: None if goal is None else goal_of(names, goal) for name, goal in goals.items()}
+    return goals
 
 
 def form_fault(machine, made):
@@ -536,9 +545,8 @@ def round_fault(machine, made):
 def drawn_run_fault(rng, machine, made, count):
     """The same, but for a drawn run of so many inputs."""
     fault = form_fault(machine, made)
-    stand = tuple(rng.randrange(2) if first is None else first for first in machine.keepers.values())
-    for place in range(count):
-        told = tuple(rng.randrange(2) for name in machine.switches)
+    stand = drawn_first(rng, machine)
+    for place, told in enumerate(drawn_row(rng, machine, count)):
         if fault is None and not goes_along(machine, made, stand, told):
             fault = f"the input {place}"
         stand = reckoned_step(machine, stand, told)
@@ -582,3 +590,90 @@ def twofold_machine(rng, switches, keepers, gates):
     nexts.update({second[name]: again(literal) for name, literal in plain.nexts.items()})
     nevers = {"same": plain.gates[-1][0], "second": second[plain.gates[-1][0]]}
     return Machine(plain.switches, firsts, made, nexts, nevers, {"some": "~" + second[plain.gates[-1][0]]})
+
+
+def endless_stands(machine, wish):
+    """The stands from which there is an endless run with the wish's literal always 0, all stands gone through."""
+    inputs = tuples(len(machine.switches))
+    literal = wish_literal(machine, wish)
+    calm = {
+        stand: [reckoned_step(machine, stand, told) for told in inputs if not bit_of(reckoned(machine, stand, told), literal)]
+        for stand in tuples(len(machine.keepers))
+    }
+    left = set(calm)
+    while True:
+        fewer = {stand for stand in left if any(behind in left for behind in calm[stand])}
+        if fewer == left:
+            return left
+        left = fewer
+
+
+def fails(machine, wish):
+    """Whether there is an endless run from a first stand with the wish's literal always 0."""
+    return bool(endless_stands(machine, wish) & set(reckoned_firsts(machine)))
+
+
+def lasso_fits(machine, wish, first, row, at):
+    """Whether this is a lasso, by the words of [111]."""
+    told = list(machine.keepers.values())
+    if not 0 <= at < len(row) or any(a is not None and a != b for a, b in zip(told, first)):
+        return False
+    stands = [first]
+    for given in row:
+        if bit_of(reckoned(machine, stands[-1], given), wish_literal(machine, wish)):
+            return False
+        stands.append(reckoned_step(machine, stands[-1], given))
+    return stands[-1] == stands[at]
+
+
+def row_fits(machine, wish, first, row):
+    """Whether the row begins at a first stand and comes to the wish's literal."""
+    told = list(machine.keepers.values())
+    if any(a is not None and a != b for a, b in zip(told, first)):
+        return False
+    for given in row[:-1]:
+        first = reckoned_step(machine, first, given)
+    return bit_of(reckoned(machine, first, row[-1]), wish_literal(machine, wish)) == 1
+
+
+def is_proper_piece(machine, piece):
+    """Whether it is a piece of [51]."""
+    order = list(machine.keepers)
+    bare = [literal[1:] if literal[:1] == "~" else literal for literal in piece]
+    if type(piece) is not tuple or any(name not in order for name in bare):
+        return False
+    places = [order.index(name) for name in bare]
+    return places == sorted(set(places))
+
+
+def drawn_input(rng, machine):
+    return tuple(rng.randrange(2) for name in machine.switches)
+
+
+def drawn_first(rng, machine):
+    return tuple(rng.randrange(2) if first is None else first for first in machine.keepers.values())
+
+
+def drawn_row(rng, machine, count):
+    return [drawn_input(rng, machine) for place in range(count)]
+
+
+def read_back(told):
+    """The answers of a text that is known to be well written: tuples (wish, word, ..) with tuples of bits and pieces."""
+    def bits(word):
+        return tuple(int(sign) for sign in word.replace("-", ""))
+
+    found = []
+    for row in told.split("\n"):
+        words = row.split()
+        if not words:
+            continue
+        if words[0] == "wall":
+            found.append((words[1], "wall", []))
+        elif words[0] in ("row", "lasso"):
+            found.append((words[1], words[0], bits(words[2]), []) + tuple(int(at) for at in words[3:]))
+        elif words[0] == "piece":
+            found[-1][2].append(tuple(words[1:]))
+        else:
+            found[-1][3].append(bits(words[1]))
+    return found

@@ -8,6 +8,8 @@ import sys
 import unittest
 
 from everguard.alike import by_alike
+from everguard.answers import answers
+from everguard.answertext import checked
 from everguard.checking import wall_shown
 from everguard.cones import by_cone
 from everguard.guarding import guarded
@@ -21,10 +23,13 @@ from everguard.rings import ring_answer, ring_shown
 from everguard.rows import none_shown, shortest_row
 from everguard.running import comes_there, first_stands, is_first, stepped, value_of, values_at, walked
 from everguard.settled import by_settled
+from everguard.smaller import made_small, row_back, wall_back
 from everguard.solving import solved
+from everguard.someday import lasso_walks, shadow, some_answer
 from everguard.steps import Steps
 from everguard.trees import both, either, holds, opposite, put_for, some_of
 from everguard.walls import wall_fault, wall_papers
+from everguard.wishes import each_wish, joined, wall_of_all
 from helper import FIELDS, counter_machine, drawers, fields, some_machine, tight_wall
 
 MANY, CLAUSES = drawers(4, 3)
@@ -32,6 +37,8 @@ MANY, CLAUSES = drawers(4, 3)
 ASKED_ELSEWHERE = """
 import random
 from everguard.alike import by_alike
+from everguard.answers import answers
+from everguard.answertext import checked
 from everguard.cones import by_cone
 from everguard.guarding import guarded
 from everguard.halving import ahead_of, halving_answer, rings_to, tree_of
@@ -41,10 +48,13 @@ from everguard.plain import plain_answer
 from everguard.rings import ring_answer
 from everguard.rows import shortest_row
 from everguard.settled import by_settled
+from everguard.smaller import made_small, wall_back
 from everguard.solving import solved
+from everguard.someday import shadow, some_answer
 from everguard.steps import Steps
 from everguard.trees import both, put_for
 from everguard.walls import wall_fault, wall_papers
+from everguard.wishes import each_wish, wall_of_all
 from helper import drawers, fields, some_machine, tight_wall
 rng = random.Random(7)
 for count in range(8):
@@ -57,9 +67,14 @@ for count in range(8):
         print(guarded(made, wish), ring_answer(made, wish, 4))
         print(rings_to(made, wish), halving_answer(made, wish), tree_of(made, made.nevers[wish]), ahead_of(made, True))
         print([fields(small) + list(names.items()) for small, names in (by_cone(made, wish), by_settled(made), by_alike(made))])
+        print([fields(small) + list(names.items()) for small, names in made_small(made, wish)])
+        print(wall_back(made, made_small(made, wish), []))
         print(wall_fault(made, wish, tight_wall(made)))
         if plain_answer(made, wish)[0] == "wall":
             print(wall_papers(made, wish, tight_wall(made)))
+    print(each_wish(made), wall_of_all(made))
+    print([(fields(shadow(made, wish)), some_answer(made, wish)) for wish in made.somes])
+    print(answers(machine_text(made)), checked(machine_text(made), answers(machine_text(made))))
 print(solved(*drawers(5, 4), []))
 tree = ("a", ("c", True, False), ("b", False, ("c", False, True)))
 order = ["a", "b", "c"]
@@ -69,6 +84,20 @@ print(both(order, tree, ("b", False, True)), put_for(order, tree, {"a": ("b", Tr
 ORDER = ["a", "b", "c"]
 TREE = ("a", ("c", True, False), ("b", False, ("c", False, True)))
 GIVEN = {"a": ("b", True, False), "c": TREE}
+
+
+def smaller(machine):
+    """(rounds, last machine) for each wish."""
+    made = [made_small(machine, name) for name in list(machine.nevers) + list(machine.somes)]
+    return [(rounds, rounds[-1][0] if rounds else machine) for rounds in made]
+
+
+def stand_of(machine):
+    return first_stands(machine)[0]
+
+
+def input_of(machine):
+    return tuple(1 for name in machine.switches)
 
 
 def questions(machine, paper):
@@ -113,6 +142,13 @@ def questions(machine, paper):
         lambda: [(rings_to(machine, name), halving_answer(machine, name)) for name in machine.nevers],
         lambda: [by_cone(machine, name) for name in list(machine.nevers) + list(machine.somes)],
         lambda: (by_settled(machine), by_alike(machine)),
+        lambda: [made_small(machine, name) for name in list(machine.nevers) + list(machine.somes)],
+        lambda: [row_back(machine, rounds, stand_of(last), [input_of(last)] * 2) for rounds, last in smaller(machine)],
+        lambda: [wall_back(machine, rounds, []) for rounds, last in smaller(machine)],
+        lambda: (joined([wall, wall]), each_wish(machine), wall_of_all(machine)),
+        lambda: [lasso_walks(machine, name, stand, row, 1) for name in machine.somes],
+        lambda: [(shadow(machine, name), some_answer(machine, name)) for name in machine.somes],
+        lambda: (answers(machine_text(machine)), checked(machine_text(machine), answers(machine_text(machine)))),
         lambda: (both(ORDER, TREE, GIVEN["a"]), either(ORDER, TREE, GIVEN["a"]), opposite(TREE)),
         lambda: (some_of(ORDER, TREE, ORDER[1:]), put_for(ORDER, TREE, GIVEN), holds(TREE, {"a": 0, "c": 1})),
     ]
@@ -234,6 +270,23 @@ class Whole(unittest.TestCase):
                     self.assertIs(ring_shown(machine, wish, ring[1], ring[2]), True)
                     met["ring"] += 1
                 met[answer[0]] += 1
+        self.assertGreater(min(met.values()), 4, met)
+
+    def test_later_answers_may_be_handed_on(self):
+        met = {"lasso": 0, "shadow": 0}
+        for machine in self.machines():
+            for wish in machine.somes:
+                answer = some_answer(machine, wish)
+                if answer[0] == "lasso":
+                    self.assertIs(lasso_walks(machine, wish, *answer[1:]), True)
+                    met["lasso"] += 1
+                    continue
+                # Greater than machines that are handed in need to be.
+                shade = shadow(machine, wish)
+                for wall in (answer[1], halving_answer(shade, wish)[1], each_wish(shade)[wish][1], guarded(shade, wish)[1]):
+                    self.assertIs(wall_shown(shade, wish, wall, wall_papers(shade, wish, wall)), True)
+                self.assertEqual(wall_of_all(shade)[0], [wish])
+                met["shadow"] += 1
         self.assertGreater(min(met.values()), 4, met)
 
     def test_machines_somewhat_beyond_the_bounds_are_not_refused(self):
