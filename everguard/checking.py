@@ -7,7 +7,8 @@ from everguard.pieces import is_kept_at_first
 from everguard.pieces import is_piece
 from everguard.pieces import wall_clauses
 from everguard.pieces import wants_of
-from everguard.refuting import refuted
+from everguard.refuting import as_dicts
+from everguard.refuting import refuted_by
 
 
 def wall_shown(machine, wish, wall, papers):
@@ -16,16 +17,16 @@ def wall_shown(machine, wish, wall, papers):
         return False
     if not all([is_piece(machine, piece) and is_kept_at_first(machine, piece) for piece in wall]):
         return False
-    clauses = wall_clauses(machine, wall)
+    given = as_dicts(wall_clauses(machine, wall))
     for piece, paper in zip(wall, papers[0]):
-        if not is_as_told(clauses, wants_of(machine, piece), paper):
+        if not is_as_told(given, wants_of(machine, piece), paper):
             return False
     want = Numbers(machine).number(literal_of_wish(machine, wish))
-    return refuted(clauses, [want], papers[1])
+    return refuted_by(given, [want], papers[1])
 
 
-def is_as_told(clauses, wants, paper):
-    """Whether the paper refutes the clauses with the wants; where these are at odds there must be none."""
+def is_as_told(given, wants, paper):
+    """Whether the paper refutes the given clauses with the wants; where these are at odds there must be none."""
     if paper is None or are_at_odds(wants):
         return paper is None and are_at_odds(wants)
-    return refuted(clauses, wants, paper)
+    return refuted_by(given, wants, paper)

@@ -3,7 +3,17 @@
 
 def refuted(clauses, wants, paper):
     """Whether the paper shows that no choice keeps the clauses with the wants."""
-    known = walked_clauses(clauses, paper[0])
+    return refuted_by(as_dicts(clauses), wants, paper)
+
+
+def as_dicts(clauses):
+    """The clauses, each as a dict of its numbers."""
+    return [dict([(number, True) for number in clause]) for clause in clauses]
+
+
+def refuted_by(given, wants, paper):
+    """The same of given clauses that are dicts already, which several papers can share."""
+    known = walked_clauses(given, paper[0])
     if known is None or not is_there(known, paper[1]):
         return False
     turned_wants = {}
@@ -14,13 +24,13 @@ def refuted(clauses, wants, paper):
 
 def clause_behind(clauses, paper):
     """The last clause of a paper that is refuted with some wants, its numbers rising."""
-    known = walked_clauses(clauses, paper[0])
+    known = walked_clauses(as_dicts(clauses), paper[0])
     return sorted(known[paper[1]])
 
 
-def walked_clauses(clauses, steps):
+def walked_clauses(given, steps):
     """The given clauses and those of the steps, each a dict of its numbers; None where a step is wrong."""
-    known = [dict([(number, True) for number in clause]) for clause in clauses]
+    known = list(given)
     for step in steps:
         clause = clause_of_step(known, step)
         if clause is None:

@@ -15,7 +15,10 @@ from everguard.running import first_stands
 from everguard.running import stand_behind
 from everguard.running import value_of
 from everguard.running import values_at
-from everguard.solving import solved
+from everguard.searching import Search
+from everguard.solving import answer_of
+
+MOST_LEARNT = 100
 
 
 def wall_fault(machine, wish, wall):
@@ -70,20 +73,31 @@ def wall_papers(machine, wish, wall):
             raise NoWall("first", place)
     numbers = Numbers(machine)
     clauses = wall_clauses(machine, wall)
+    search = begun(numbers.many(), clauses)
     papers = []
     for place, piece in enumerate(wall):
         wants = wants_of(machine, piece)
         if are_at_odds(wants):
             papers.append(None)
         else:
-            papers.append(paper_for(numbers.many(), clauses, wants, "step", place))
+            papers.append(paper_for(search, wants, "step", place))
+        # What was learnt makes the next questions short, but the more it is the longer their papers get.
+        if len(search.chains) > MOST_LEARNT:
+            search = begun(numbers.many(), clauses)
     wants = [numbers.number(literal_of_wish(machine, wish))]
-    return (papers, paper_for(numbers.many(), clauses, wants, "never", 0))
+    return (papers, paper_for(search, wants, "never", 0))
 
 
-def paper_for(many, clauses, wants, word, place):
+def begun(many, clauses):
+    """A search that has learnt nothing yet."""
+    search = Search(many)
+    search.take(clauses)
+    return search
+
+
+def paper_for(search, wants, word, place):
     """The paper that refutes the clauses with the wants; where there is none, what was handed in is no wall."""
-    answer = solved(many, clauses, wants)
+    answer = answer_of(search, wants)
     if answer[0] == "yes":
         raise NoWall(word, place)
     return answer[1]

@@ -1,5 +1,6 @@
 """All wishes of never of a machine, and one wall of several."""
 
+from everguard.guarding import guarded
 from everguard.halving import halving_answer
 from everguard.reaching import reached_wall
 from everguard.smaller import last_machine
@@ -8,6 +9,7 @@ from everguard.smaller import row_back
 from everguard.smaller import wall_back
 
 FEW_PIECES = 40
+MOST_HALVED = 20
 
 
 def joined(walls):
@@ -42,6 +44,9 @@ def never_answer(machine, wish):
 
 def small_answer(machine, wish):
     """A row, or a wall of as few pieces as are found."""
+    if len(machine.keepers) > MOST_HALVED:
+        # So great are shadows alone, and a wall of just the right stands has far too many pieces there.
+        return guarded(machine, wish)[:-1]
     answer = halving_answer(machine, wish)
     if answer[0] == "row" or len(answer[1]) <= FEW_PIECES:
         return answer

@@ -7,6 +7,7 @@ import unittest
 from everguard.checking import wall_shown
 from everguard.halving import halving_answer
 from everguard.machinetext import read_machine
+from everguard.someday import shadow
 from everguard.walls import wall_papers
 from everguard.wishes import each_wish, joined, wall_of_all
 from helper import (
@@ -138,6 +139,22 @@ class Great(Wishing):
                     papers = wall_papers(machine, names[-1], wall)
                     self.assertIs(wall_shown(machine, names[-1], wall, papers), True)
         self.assertGreater(min(met.values()), 5, met)
+
+    def test_machines_greater_than_may_be_handed_in(self):
+        met = {"row": 0, "wall": 0}
+        rng = random.Random(1018)
+        for count in range(6):
+            machine = knotted_machine(rng, 3, 12, 48)
+            for wish in machine.somes:
+                shade = shadow(machine, wish)
+                answer = each_wish(shade)[wish]
+                if answer[0] == "row":
+                    self.assertTrue(row_fits(shade, wish, answer[1], answer[2]))
+                else:
+                    self.assertIs(wall_shown(shade, wish, answer[1], wall_papers(shade, wish, answer[1])), True)
+                self.assertEqual(len(answer), 3 if answer[0] == "row" else 2)
+                met[answer[0]] += len(shade.keepers) > 20
+        self.assertGreater(min(met.values()), 1, met)
 
     def test_machines_put_together(self):
         told = each_wish(token_machine(16))
