@@ -62,16 +62,16 @@ class Grove:
                 number = self.both_of(number, self.number_of(keeper if first == 1 else "~" + keeper))
         return number
 
-    def all_nexts(self):
-        """A dict from the keepers to the trees of what they will be."""
-        if len(self.nexts) == 0:
-            for keeper in self.machine.keepers:
-                self.nexts[keeper] = self.number_of(next_of(self.machine, keeper))
-        return self.nexts
+    def next_number(self, keeper):
+        """The tree of what the keeper will be."""
+        return self.number_of(next_of(self.machine, keeper))
 
     def moves_into(self, number):
         """The moves that lead into a tree of stands."""
-        return self.forest.replaced(number, self.all_nexts(), self.made_into)
+        for keeper in self.forest.names_in(number):
+            if keeper not in self.nexts:
+                self.nexts[keeper] = self.next_number(keeper)
+        return self.forest.replaced(number, self.nexts, self.made_into)
 
     def stands_of(self, number):
         """The stands at which a tree of moves has one."""

@@ -41,7 +41,8 @@ class PairedGrove(Grove):
         """
         if len(self.links) == 0:
             free = list(self.machine.keepers) + self.machine.switches
-            for keeper, number in reversed(list(self.all_nexts().items())):
+            for keeper in reversed(list(self.machine.keepers)):
+                number = self.next_number(keeper)
                 used = self.forest.names_in(number)
                 same = self.forest.chosen(self.twins[keeper], number, self.opposite_of(number))
                 self.links.append((same, dict([(name, True) for name in free if name in used])))

@@ -292,10 +292,14 @@ class Whole(unittest.TestCase):
     def test_machines_somewhat_beyond_the_bounds_are_not_refused(self):
         keepers = {"k" + letter: 0 for letter in "abcdefghijklmnopqr"}
         switches = ["s" + letter for letter in "abcdefghijklmn"]
-        machine = Machine(switches, keepers, [("g", "sa", "ka")], {"ka": "sn"}, {"w": "g"}, {})
+        machine = Machine(switches, keepers, [("g", "sa", "ka")], {"ka": "sn"}, {"w": "g", "v": "kr"}, {"u": "kb", "x": "~kb"})
         self.assertEqual(stepped(machine, (0,) * 18, (1,) * 14), (1,) + (0,) * 17)
         self.assertEqual(Numbers(machine).many(), 34)
         self.assertIs(comes_there(machine, "w", (0,) * 18, [(1,) * 14] * 2), True)
+        self.assertEqual([answer[0] for answer in each_wish(machine).values()], ["row", "wall"])
+        self.assertEqual([some_answer(machine, wish)[0] for wish in machine.somes], ["lasso", "wall"])
+        self.assertEqual([small.keepers for small, names in made_small(machine, "w")], [{"ka": 0}])
+        self.assertEqual(halving_answer(machine, "v"), ("wall", [("~kr",)]))
 
     def test_the_same_is_told_in_another_process(self):
         folder = os.path.dirname(os.path.abspath(__file__))
